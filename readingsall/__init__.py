@@ -1,0 +1,1 @@
+"""Readingsall: every reading of a text, counted and ranked."""

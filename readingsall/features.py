@@ -1,0 +1,49 @@
+"""Which labels a rule fits (points 4, 5 and 6 of the document)."""
+
+ANY_VALUE = "*"
+VARIABLE_SIGN = "?"
+
+
+def choose_values(patterns, labels, chosen):
+    """Return the chosen values, completed such that each pattern agrees with its label, or None.
+
+    Chosen values are a dict from variables to values. None tells that the patterns and the labels
+    do not agree, whatever is chosen for the other variables.
+    """
+    if len(patterns) != len(labels):
+        return None
+    # A copy, since the caller may try the same choice with other labels.
+    values = dict(chosen)
+    for pattern, label in zip(patterns, labels):
+        if pattern[0] != label[0]:
+            return None
+        for term, value in zip(pattern[1], label[1]):
+            if term.startswith(VARIABLE_SIGN):
+                if values.setdefault(term, value) != value:
+                    return None
+            elif term != ANY_VALUE and term != value:
+                return None
+    return values
+
+
+def fits(rule, label, labels):
+    """Return True if the rule fits the label and the tuple of labels, otherwise False."""
+    pattern, parts = rule[:2]
+    return choose_values((pattern, *parts), (label, *labels), {}) is not None
+
+
+def left_labels(grammar, number, labels):
+    """Return the list of all labels that the rule with the number fits together with the labels.
+
+    They stand in ascending order. A number without a rule gives the empty list.
+    """
+    rules = grammar.rules()
+    if not 0 <= number < len(rules):
+        return []
+    pattern, parts = rules[number][:2]
+    chosen = choose_values(parts, labels, {})
+    if chosen is None:
+        return []
+    # Grammar.labels has them in ascending order already.
+    return [label for label in grammar.labels(pattern[0])
+            if choose_values((pattern,), (label,), chosen) is not None]
