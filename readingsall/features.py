@@ -4,6 +4,17 @@ ANY_VALUE = "*"
 VARIABLE_SIGN = "?"
 
 
+def label_list(category, choices):
+    """Return the list of the labels of the category that take one value from each list, in order.
+
+    They stand in ascending order if the values of each list do.
+    """
+    rows = [()]
+    for values in choices:
+        rows = [(*row, value) for row in rows for value in values]
+    return [(category, row) for row in rows]
+
+
 def choose_values(patterns, labels, chosen):
     """Return the chosen values, completed such that each pattern agrees with its label, or None.
 

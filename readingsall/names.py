@@ -1,8 +1,9 @@
-"""Names, forms and texts (point 3 of the document)."""
+"""Names, glosses, letters, forms and texts (point 3 of the document)."""
 
 from readingsall.errors import BadText
 
 LONGEST_NAME = 12
+LONGEST_GLOSS = 20
 
 
 def is_letter(char):
@@ -14,6 +15,20 @@ def is_name(text):
     if not 1 <= len(text) <= LONGEST_NAME:
         return False
     return is_letter(text[0]) and all(is_letter(char) or "0" <= char <= "9" for char in text)
+
+
+def is_gloss(text):
+    """Return True if the string is a gloss, otherwise False."""
+    return 1 <= len(text) <= LONGEST_GLOSS and all(is_gloss_character(char) for char in text)
+
+
+def is_gloss_character(char):
+    return is_letter(char) or "A" <= char <= "Z" or "0" <= char <= "9" or char in ".-"
+
+
+def is_letters(text, least, most):
+    """Return True if the string consists of letters, at least and at most so many, otherwise False."""
+    return least <= len(text) <= most and all(is_letter(char) for char in text)
 
 
 def is_form(text):

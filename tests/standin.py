@@ -1,4 +1,4 @@
-"""A stand-in for the class Grammar, with those of its methods that tests need until it is there."""
+"""A stand-in for the class Grammar: it takes what that one refuses, such as rings and one attribute twice."""
 
 from itertools import product
 

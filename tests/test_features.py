@@ -4,6 +4,8 @@ import copy
 import unittest
 from itertools import product
 
+from helpers import content, make
+from plain import every_label
 from readingsall.features import fits, left_labels
 from standin import StandIn
 
@@ -392,6 +394,65 @@ class OwnLists(unittest.TestCase):
             for labels in ((), (S,), (n("sg"),), (S, S, S, S)):
                 left_labels(given, number, labels).append(S)
         self.assertEqual((given.own_rules, given.own_labels), kept)
+
+
+class OwnGrammar(unittest.TestCase):
+    """With a Grammar of the program, which has the rules that close no ring."""
+
+    def grammar(self):
+        rules = [RULES[k] for k in (0, 1, 2, 4, 5, 6, 7, 8, 9, 11)]
+        return make(ATTRIBUTES, CATEGORIES, rules)
+
+    def check(self, given, number, labels, wanted):
+        with self.subTest(rule=given.rules()[number], labels=labels):
+            found = left_labels(given, number, labels)
+            self.assertEqual(found, wanted)
+            self.assertIs(type(found), list)
+
+    def test_all_labels_and_no_others(self):
+        given = self.grammar()
+        every = every_label(given)
+        for number, one in enumerate(given.rules()):
+            for many in range(3):
+                for labels in product(every[::1 if many < 2 else 3], repeat=many):
+                    wanted = sorted(label for label in every if plainly_fits(one, label, labels))
+                    self.check(given, number, labels, wanted)
+
+    def test_ordinary(self):
+        given = self.grammar()
+        self.check(given, 0, (np("sg", "nom"), vp("sg", "past")), [S])
+        self.check(given, 0, (np("sg", "nom"), vp("pl", "past")), [])
+        self.check(given, 1, (n("pl"),), [np("pl", "acc"), np("pl", "nom")])
+        self.check(given, 4, (vp("du", "nom"), np("du", "acc")), [("wide", ("nom", "du", "acc"))])
+        labels = (np("sg", "nom"), np("sg", "acc"), np("pl", "nom"), vp("pl", "nom"))
+        self.check(given, 6, labels, [n("sg")])
+        wanted = [("wide", (tense, num, case)) for tense in ("fut", "nom", "past")
+                  for num in ("du", "pl", "sg") for case in ("acc", "nom")]
+        self.check(given, 5, (S,) * 4, wanted)
+        self.check(given, 7, (S,), wanted)
+
+    def test_any_number_of_labels(self):
+        given = self.grammar()
+        for number, one in enumerate(given.rules()):
+            for many in (0, 1, 2, 3, 4, 5, 6, 1000):
+                if many != len(one[1]):
+                    self.check(given, number, (S,) * many, [])
+                    self.check(given, number, (n("sg"),) * many, [])
+
+    def test_labels_of_other_categories_as_many_as_the_parts(self):
+        given = self.grammar()
+        self.check(given, 0, (S, S), [])
+        self.check(given, 0, (vp("sg", "past"), np("sg", "nom")), [])
+        self.check(given, 8, (n("sg"),), [])
+
+    def test_the_call_changes_nothing(self):
+        given = self.grammar()
+        kept = content(given)
+        for number in range(len(given.rules())):
+            for labels in ((), (S,), (n("pl"),), (S, S, S, S)):
+                left_labels(given, number, labels).append(S)
+        self.assertEqual(content(given), kept)
+        self.check(given, 1, (n("pl"),), [np("pl", "acc"), np("pl", "nom")])
 
 
 if __name__ == "__main__":

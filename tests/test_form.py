@@ -23,7 +23,30 @@ INTERFACE = {
     "features": {
         "fits": ["rule", "label", "labels"], "left_labels": ["grammar", "number", "labels"],
     },
+    "grammar": {"Grammar": []},
+    "words": {
+        "join": ["seams", "text", "more"], "row_text": ["grammar", "row"], "row_state": ["grammar", "row"],
+        "row_marks": ["grammar", "row"], "row_labels": ["grammar", "row"], "rows_up_to": ["grammar", "most"],
+    },
+    "stages": {
+        "reach": ["grammar"], "possible": ["grammar", "text", "form"], "stages": ["grammar", "form"],
+        "is_complete": ["grammar", "stage", "form", "label"], "rows_of": ["grammar", "form"],
+    },
 }
+
+# The methods that the interface lists for a class: the arguments, then those that are passed by keyword.
+CLASSES = {
+    "Grammar": {
+        "__init__": ([], []), "add_attribute": (["name", "values"], []),
+        "add_category": (["name", "attributes"], []), "set_start": (["category"], []),
+        "set_first": (["state"], []), "add_rule": (["pattern", "parts"], ["cost", "gloss_row"]),
+        "add_morph": (["text", "kind"], ["marks", "cost", "gloss"]), "add_arc": (["state", "kind", "target"], []),
+        "add_end": (["state", "category"], []), "add_seam": (["left", "right", "joined"], []),
+        "attributes": ([], []), "categories": ([], []), "rules": ([], []), "morphs": ([], []), "arcs": ([], []),
+        "ends": ([], []), "seams": ([], []), "start": ([], []), "first": ([], []), "labels": (["category"], []),
+    },
+}
+PROPERTIES = {"Grammar": ["start", "first"]}
 
 LIBRARY = {
     "heapq": {"heappush", "heappop", "heapify", "heapreplace", "heappushpop"},
@@ -45,9 +68,6 @@ METHODS = set("""append clear copy count endswith extend find get index insert i
     rpartition rsplit rstrip setdefault split splitlines startswith strip update upper values zfill bit_length
     title capitalize swapcase casefold center expandtabs removeprefix removesuffix rindex isascii isdecimal
     isnumeric istitle isidentifier isprintable sort add discard""".split())
-
-# Methods of the interface whose class is not written yet, but which are called already.
-AWAITED = {"rules", "labels"}
 
 BARRED = re.compile(r"""\b(type|typing|typing_extensions|enum|Enum|IntEnum|StrEnum|Flag|IntFlag|Generic|Protocol
     |ABC|ABCMeta|namedtuple|NamedTuple|TypedDict|TYPE_CHECKING|abstractmethod|register|mro|elements|open|input
@@ -159,11 +179,21 @@ class Code(unittest.TestCase):
             with self.subTest(place, name=node.arg):
                 self.assertFalse(hasattr(builtins, node.arg))
 
+    def test_no_variable_has_the_name_of_a_class_or_an_import_of_its_file(self):
+        for path, tree in trees():
+            every = list(ast.walk(tree))
+            taken = {alias.name for node in every if isinstance(node, ast.ImportFrom) for alias in node.names}
+            taken |= {node.name for node in every if isinstance(node, ast.ClassDef)}
+            stored = {node.id for node in every if isinstance(node, ast.Name) and isinstance(node.ctx, ast.Store)}
+            stored |= {node.arg for node in every if isinstance(node, ast.arg)}
+            with self.subTest(path.name):
+                self.assertEqual(taken & stored, set())
+
     def test_methods(self):
         own = own_names()
         for place, node in nodes(ast.Attribute):
             with self.subTest(place, name=node.attr):
-                self.assertIn(node.attr, METHODS | own | AWAITED | {"__init__"})
+                self.assertIn(node.attr, METHODS | own | {"__init__"})
 
     def test_values(self):
         for place, node in nodes(ast.Constant):
@@ -194,6 +224,19 @@ class Interface(unittest.TestCase):
                     self.assertIn(one, found)
                     if isinstance(found[one], ast.FunctionDef):
                         self.assertEqual([each.arg for each in found[one].args.args], arguments)
+
+    def test_each_class_itself_defines_its_methods_with_their_arguments(self):
+        for _, node in nodes(ast.ClassDef):
+            wanted = CLASSES.get(node.name, {})
+            found = {one.name: one for one in node.body if isinstance(one, ast.FunctionDef)}
+            for name, (plain, by_keyword) in wanted.items():
+                with self.subTest(node.name, method=name):
+                    self.assertIn(name, found)
+                    told = found[name].args
+                    self.assertEqual([each.arg for each in told.args], ["self", *plain])
+                    self.assertEqual([each.arg for each in told.kwonlyargs], by_keyword)
+                    over = [each.id for each in found[name].decorator_list]
+                    self.assertEqual(over, ["property"] if name in PROPERTIES.get(node.name, []) else [])
 
 
 if __name__ == "__main__":

@@ -3,7 +3,7 @@
 import unittest
 
 from readingsall.errors import BadText, ReadingsError
-from readingsall.names import is_form, is_name, join_words, split_text
+from readingsall.names import is_form, is_gloss, is_letters, is_name, join_words, split_text
 
 LETTERS = "abcdefghijklmnopqrstuvwxyz"
 DIGITS = "0123456789"
@@ -42,6 +42,37 @@ class IsName(unittest.TestCase):
         for text in ("1", "1a", "Np", "nP", "NP", "n p", " np", "np ", "n_p", "_np", "n-p", "?np",
                      "*", "n.p", "=", "$1", ":", "->", "+"):
             self.check(text, False)
+
+
+class IsGloss(unittest.TestCase):
+    def check(self, text, wanted):
+        with self.subTest(text):
+            self.assertIs(is_gloss(text), wanted)
+
+    def test_lengths(self):
+        for many in range(25):
+            self.check("a" * many, 1 <= many <= 20)
+            self.check("." * many, 1 <= many <= 20)
+
+    def test_each_character_at_each_place(self):
+        for char in ALL_CHARACTERS:
+            for text in (char, char + "a", "PL" + char, "1" + char + "-"):
+                self.check(text, char in LETTERS + LETTERS.upper() + DIGITS + ".-")
+
+
+class IsLetters(unittest.TestCase):
+    def test_lengths(self):
+        for many in range(6):
+            for least in range(6):
+                for most in range(6):
+                    with self.subTest(many=many, least=least, most=most):
+                        self.assertIs(is_letters("z" * many, least, most), least <= many <= most)
+
+    def test_each_character_at_each_place(self):
+        for char in ALL_CHARACTERS:
+            for text in (char, char + "a", "ab" + char, "a" + char + "b"):
+                with self.subTest(text):
+                    self.assertIs(is_letters(text, 1, 3), char in LETTERS)
 
 
 class IsForm(unittest.TestCase):
