@@ -1,4 +1,8 @@
-"""Which labels a rule fits (points 4, 5 and 6 of the document)."""
+"""Which labels a rule fits (points 4, 5 and 6 of the document).
+
+Choices are a dict from categories to a list with the values of each of their attributes. Chosen values are a
+dict from variables to values.
+"""
 
 ANY_VALUE = "*"
 VARIABLE_SIGN = "?"
@@ -18,8 +22,7 @@ def label_list(category, choices):
 def choose_values(patterns, labels, chosen):
     """Return the chosen values, completed such that each pattern agrees with its label, or None.
 
-    Chosen values are a dict from variables to values. None tells that the patterns and the labels
-    do not agree, whatever is chosen for the other variables.
+    None tells that the patterns and the labels do not agree, whatever is chosen for the other variables.
     """
     if len(patterns) != len(labels):
         return None
@@ -35,6 +38,12 @@ def choose_values(patterns, labels, chosen):
             elif term != ANY_VALUE and term != value:
                 return None
     return values
+
+
+def value_choices(grammar):
+    """Return the choices of all categories of the grammar."""
+    values = dict(grammar.attributes())
+    return {category: [values[name] for name in attributes] for category, attributes in grammar.categories()}
 
 
 def fits(rule, label, labels):
@@ -58,3 +67,20 @@ def left_labels(grammar, number, labels):
     # Grammar.labels has them in ascending order already.
     return [label for label in grammar.labels(pattern[0])
             if choose_values((pattern,), (label,), chosen) is not None]
+
+
+def part_labels(part, chosen, choices):
+    """Return the list of the labels that agree with the part when these values are chosen."""
+    # A variable stands at places of one attribute only, so it stands in one part at most once.
+    category, terms = part
+    rows = [term_values(term, chosen, values) for term, values in zip(terms, choices[category])]
+    return label_list(category, rows)
+
+
+def term_values(term, chosen, values):
+    """Return the list of those values of an attribute for which the term may stand."""
+    if term in chosen:
+        return [chosen[term]]
+    if term == ANY_VALUE or term.startswith(VARIABLE_SIGN):
+        return list(values)
+    return [term]

@@ -4,7 +4,7 @@ from readingsall.checks import (
     check_all_different, check_cost, check_gloss_row, check_letters, check_name, grows, is_variable,
 )
 from readingsall.errors import BadGrammar, BadName, Duplicate, NoGrowth, Ring, Unknown
-from readingsall.features import ANY_VALUE, label_list
+from readingsall.features import ANY_VALUE, label_list, value_choices
 from readingsall.names import is_gloss
 from readingsall.rings import find_ring
 
@@ -194,9 +194,7 @@ class Grammar:
         if len(parts) > 1:
             return
         units = [unit for unit in [*self._rules, rule] if len(unit[1]) == 1]
-        choices = {category: [self._values[name] for name in attributes]
-                   for category, attributes in self._categories.items()}
-        ring = find_ring(units, choices, pattern[0])
+        ring = find_ring(units, value_choices(self), pattern[0])
         if ring is not None:
             raise Ring(ring)
 

@@ -1,10 +1,9 @@
 """Rings of unit rules (points 6 and 7 of the document).
 
-Choices are a dict from categories to a list with the values of each of their attributes. Unit rules are kept
-in a dict from the categories of their patterns to lists of them.
+Unit rules are kept in a dict from the categories of their patterns to lists of them.
 """
 
-from readingsall.features import ANY_VALUE, VARIABLE_SIGN, choose_values, label_list
+from readingsall.features import choose_values, label_list, part_labels
 
 
 def find_ring(units, choices, category):
@@ -51,20 +50,3 @@ def next_labels(label, rules, choices):
         if chosen is not None:
             found.extend(part_labels(parts[0], chosen, choices))
     return found
-
-
-def part_labels(part, chosen, choices):
-    """Return the list of the labels that agree with the part when these values are chosen."""
-    # A variable stands at places of one attribute only, so it stands in one part at most once.
-    category, terms = part
-    rows = [term_values(term, chosen, values) for term, values in zip(terms, choices[category])]
-    return label_list(category, rows)
-
-
-def term_values(term, chosen, values):
-    """Return the list of those values of an attribute for which the term may stand."""
-    if term in chosen:
-        return [chosen[term]]
-    if term == ANY_VALUE or term.startswith(VARIABLE_SIGN):
-        return list(values)
-    return [term]

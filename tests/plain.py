@@ -1,4 +1,4 @@
-"""Rows and stages word by word as the document defines them, slowly, and grammars to compare with."""
+"""Rows, stages and fitting word by word as the document defines them, slowly, and grammars to compare with."""
 
 from itertools import product
 
@@ -100,6 +100,27 @@ def plain_steps(grammar, form, names, stage):
                 if all(marks[names.index(name)] in ("", own[name]) for name in own):
                     together = tuple(own.get(name, mark) for name, mark in zip(names, marks))
                     yield (target, joined, together), (stage, number)
+
+
+def variables_of(patterns):
+    return sorted({term for _, terms in patterns for term in terms if term.startswith("?")})
+
+
+def plainly_fits(one, label, labels):
+    """Point 6 word by word: try every choice of a value for each variable."""
+    patterns, tried = [one[0], *one[1]], [label, *labels]
+    if len(labels) != len(one[1]):
+        return False
+    if [name for name, _ in patterns] != [name for name, _ in tried]:
+        return False
+    places = [place for pattern, (_, values) in zip(patterns, tried) for place in zip(pattern[1], values)]
+    names = variables_of(patterns)
+    every = sorted({value for _, value in places})
+    for values in product(every, repeat=len(names)):
+        chosen = dict(zip(names, values))
+        if all(term == "*" or term == value or chosen.get(term) == value for term, value in places):
+            return True
+    return False
 
 
 def some_grammar(chance):

@@ -5,7 +5,7 @@ import unittest
 from itertools import product
 
 from helpers import content, make
-from plain import every_label
+from plain import every_label, plainly_fits
 from readingsall.features import fits, left_labels
 from standin import StandIn
 
@@ -88,27 +88,6 @@ DOUBLE = StandIn(
 
 def grammar():
     return StandIn(ATTRIBUTES, CATEGORIES, RULES)
-
-
-def variables_of(patterns):
-    return sorted({term for _, terms in patterns for term in terms if term.startswith("?")})
-
-
-def plainly_fits(one, label, labels):
-    """Point 6 word by word: try every choice of a value for each variable."""
-    patterns, tried = [one[0], *one[1]], [label, *labels]
-    if len(labels) != len(one[1]):
-        return False
-    if [name for name, _ in patterns] != [name for name, _ in tried]:
-        return False
-    places = [place for pattern, (_, values) in zip(patterns, tried) for place in zip(pattern[1], values)]
-    names = variables_of(patterns)
-    every = sorted({value for _, value in places})
-    for values in product(every, repeat=len(names)):
-        chosen = dict(zip(names, values))
-        if all(term == "*" or term == value or chosen.get(term) == value for term, value in places):
-            return True
-    return False
 
 
 class Fits(unittest.TestCase):

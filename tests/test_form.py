@@ -32,6 +32,12 @@ INTERFACE = {
         "reach": ["grammar"], "possible": ["grammar", "text", "form"], "stages": ["grammar", "form"],
         "is_complete": ["grammar", "stage", "form", "label"], "rows_of": ["grammar", "form"],
     },
+    "chart": {"table": ["grammar", "words"]},
+    "certify": {"accepts": ["grammar", "words", "pair"]},
+    "derivations": {
+        "derives": ["grammar", "words", "label", "derivation"], "is_reading": ["grammar", "words", "derivation"],
+        "cost": ["grammar", "derivation"], "gloss": ["grammar", "derivation"], "words_of": ["grammar", "derivation"],
+    },
 }
 
 # The methods that the interface lists for a class: the arguments, then those that are passed by keyword.
