@@ -44,4 +44,7 @@ def marked_labels(grammar, state, marks):
 
 def agrees(values, marks):
     """Return True if each value is the mark at its place, where there is one."""
-    return all([mark in (NO_MARK, value) for value, mark in zip(values, marks)])
+    for value, mark in zip(values, marks):
+        if mark not in (NO_MARK, value):
+            return False
+    return True

@@ -11,7 +11,7 @@ from pathlib import Path
 
 PACKAGE = Path(__file__).resolve().parent.parent / "readingsall"
 
-# What the interface lists, by the file in which it is defined; more of it comes with each module.
+# What the interface lists, by the file in which it is defined.
 INTERFACE = {
     "errors": {
         "ReadingsError": [], "BadName": [], "BadGrammar": [], "Duplicate": [], "Unknown": [],
@@ -38,6 +38,13 @@ INTERFACE = {
         "derives": ["grammar", "words", "label", "derivation"], "is_reading": ["grammar", "words", "derivation"],
         "cost": ["grammar", "derivation"], "gloss": ["grammar", "derivation"], "words_of": ["grammar", "derivation"],
     },
+    "forest": {"Forest": []},
+    "ranking": {"Ranking": []},
+    "examples": {"example": ["grammar", "label"]},
+    "language": {
+        "write_grammar": ["grammar"], "read_grammar": ["lines"], "same_grammar": ["one", "other"],
+        "write_derivation": ["derivation"], "read_derivation": ["lines"],
+    },
 }
 
 # The methods that the interface lists for a class: the arguments, then those that are passed by keyword.
@@ -51,8 +58,19 @@ CLASSES = {
         "attributes": ([], []), "categories": ([], []), "rules": ([], []), "morphs": ([], []), "arcs": ([], []),
         "ends": ([], []), "seams": ([], []), "start": ([], []), "first": ([], []), "labels": (["category"], []),
     },
+    "Forest": {
+        "__init__": (["entries"], []), "counts": (["entry"], []), "total": (["entry"], []),
+        "tree": (["entry", "number"], []), "number": (["tree"], []), "cost": (["tree"], []),
+        "trees": (["entry", "start"], []),
+    },
+    "Ranking": {
+        "__init__": (["grammar", "words"], []), "reading_count": ([], []), "by_cost": ([], []),
+        "reading": (["number"], []), "number": (["derivation"], []), "readings": (["start"], []), "table": ([], []),
+    },
 }
-PROPERTIES = {"Grammar": ["start", "first"]}
+PROPERTIES = {"Grammar": ["start", "first"], "Ranking": ["reading_count"]}
+# Methods that yield; no other function or method has the name of one.
+GENERATORS = {"Forest": ["trees"], "Ranking": ["readings"]}
 
 LIBRARY = {
     "heapq": {"heappush", "heappop", "heapify", "heapreplace", "heappushpop"},
@@ -243,6 +261,17 @@ class Interface(unittest.TestCase):
                     self.assertEqual([each.arg for each in told.kwonlyargs], by_keyword)
                     over = [each.id for each in found[name].decorator_list]
                     self.assertEqual(over, ["property"] if name in PROPERTIES.get(node.name, []) else [])
+                    yields = any(isinstance(each, ast.Yield) for each in ast.walk(found[name]))
+                    self.assertIs(yields, name in GENERATORS.get(node.name, []))
+
+    def test_all_classes_of_the_interface_are_looked_at(self):
+        self.assertLessEqual(set(CLASSES), {node.name for _, node in nodes(ast.ClassDef)})
+
+    def test_no_other_function_has_the_name_of_a_generator(self):
+        names = [node.name for _, node in nodes(ast.FunctionDef)]
+        for generators in GENERATORS.values():
+            for name in generators:
+                self.assertEqual(names.count(name), 1)
 
 
 if __name__ == "__main__":
