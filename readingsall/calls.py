@@ -68,10 +68,10 @@ def call_rule(grammar, cost, tokens):
     parts = []
     while PART_END in right:
         part, right = split_once(right, PART_END)
-        parts.append(part)
-    parts.append(right)
-    grammar.add_rule(read_pattern(left), tuple([read_pattern(part) for part in parts]), cost=cost,
-                     gloss_row=tuple([read_item(item) for item in items]))
+        parts.append(read_pattern(part))
+    parts.append(read_pattern(right))
+    gloss_row = tuple([read_item(item) for item in items])
+    grammar.add_rule(read_pattern(left), tuple(parts), cost=cost, gloss_row=gloss_row)
 
 
 def read_mark(token):

@@ -97,6 +97,11 @@ BARRED = re.compile(r"""\b(type|typing|typing_extensions|enum|Enum|IntEnum|StrEn
     |ABC|ABCMeta|namedtuple|NamedTuple|TypedDict|TYPE_CHECKING|abstractmethod|register|mro|elements|open|input
     |law|version_info)\b""", re.VERBOSE)
 
+# These words stand in no string but a docstring.
+IN_STRINGS = re.compile(r"""\b(typing|typing_extensions|enum|Enum|IntEnum|StrEnum|Flag|IntFlag|Generic|Protocol|ABC
+    |ABCMeta|namedtuple|NamedTuple|TypedDict|TYPE_CHECKING|abstractmethod)\b|dataclass|overload|contextmanager|__
+    |\._""", re.VERBOSE)
+
 STATEMENTS = (
     ast.Assign, ast.AugAssign, ast.AnnAssign, ast.If, ast.While, ast.For, ast.Return, ast.Break, ast.Continue,
     ast.Pass, ast.Raise, ast.Assert, ast.Delete, ast.Nonlocal, ast.Global, ast.Match, ast.With, ast.Try,
@@ -227,6 +232,40 @@ class Code(unittest.TestCase):
                     self.assertNotIn("%", node.value)
         for place, node in nodes(ast.Div, ast.AsyncFunctionDef, ast.Await):
             self.fail(f"{node} in {place}")
+
+    def test_words_in_strings(self):
+        for path, tree in trees():
+            docstrings = [node.value for node in ast.walk(tree) if isinstance(node, ast.Expr)]
+            for node in ast.walk(tree):
+                if isinstance(node, ast.Constant) and isinstance(node.value, str) and node not in docstrings:
+                    with self.subTest(path.name, line=node.lineno):
+                        self.assertNotRegex(node.value, IN_STRINGS)
+
+    def test_captured_names(self):
+        for place, function in nodes(ast.FunctionDef):
+            cases = [node for node in ast.walk(function) if isinstance(node, ast.match_case)]
+            inside = [{node.name for node in ast.walk(case.pattern) if isinstance(node, (ast.MatchAs, ast.MatchStar))}
+                      for case in cases]
+            stored = {node.id for node in ast.walk(function) if isinstance(node, ast.Name) and isinstance(node.ctx, ast.Store)}
+            taken = stored | {node.arg for node in ast.walk(function) if isinstance(node, ast.arg)}
+            with self.subTest(place):
+                for case, names in zip(cases, inside):
+                    self.assertEqual(names & taken, set())
+                    read = {node.id for each in case.body for node in ast.walk(each) if isinstance(node, ast.Name)}
+                    self.assertEqual(read & set().union(*inside) - names, set())
+
+    def test_dict_views_and_the_like_are_iterated_on_the_spot(self):
+        parents = {}
+        for _, tree in trees():
+            parents.update({id(child): node for node in ast.walk(tree) for child in ast.iter_child_nodes(node)})
+            for node in ast.walk(tree):
+                if isinstance(node, ast.Call):
+                    name = getattr(node.func, "id", None) or getattr(node.func, "attr", None)
+                    if name in ("zip", "enumerate", "reversed", "range", "items", "keys", "values"):
+                        parent = parents[id(node)]
+                        by_call = isinstance(parent, ast.Call) and getattr(parent.func, "id", None) in (
+                            "list", "tuple", "dict", "sorted", "sum", "any", "all", "enumerate", "zip", "reversed")
+                        self.assertTrue(by_call or isinstance(parent, (ast.For, ast.comprehension)), ast.dump(node))
 
     def test_barred_words(self):
         for place, node in nodes(ast.Name, ast.Attribute, ast.arg, ast.FunctionDef, ast.ClassDef, ast.keyword):
